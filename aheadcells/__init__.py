@@ -1,0 +1,1 @@
+"""Cells dealt ahead of a run of which only the needs are known."""

@@ -1,0 +1,58 @@
+import unittest
+
+from aheadcells.followings import following, least_cells, lot
+from aheadcells.orders import ahead, can_be_done, fault, wanted
+from aheadcells.programs import Program, makers, readers
+from aheadcells.tables import table_clash
+from aheadcells.values import apart, distances
+from aheadcells.ways import least_rounds
+
+
+class Examples(unittest.TestCase):
+    """The examples of the document, as they stand there."""
+
+    def setUp(self):
+        self.p = Program(3, ((0, 1, 0), (1, 2, 0), (2, 0, 1)), ())
+        self.q = Program(2, ((0, 1, 0),), ())
+        self.r = Program(2, ((0, 1, 0),), ((1, 0, 2),))
+        self.t = Program(6, ((0, 1, 0), (0, 2, 0), (3, 5, 0), (4, 5, 0)), ((1, 3, 0), (2, 4, 0), (5, 0, 1)))
+
+    def test_e01(self):
+        self.assertEqual(readers(self.t, 0), ((1, 0), (2, 0)))
+        self.assertEqual(makers(self.t), (0, 3, 4))
+
+    def test_e02(self):
+        self.assertEqual(fault(self.p, (0, 1, 0)), 2)
+        self.assertEqual(can_be_done(self.p, (0, 1)), (2,))
+
+    def test_e03(self):
+        self.assertEqual(wanted(self.r, (0, 0)), [(0, 1), (0, 2)])
+
+    def test_e04(self):
+        self.assertEqual(ahead(self.r, 0, 1), 2)
+        self.assertIsNone(ahead(self.q, 0, 1))
+
+    def test_e05(self):
+        self.assertEqual(least_rounds(self.p, 2, 1), 1)
+
+    def test_e06(self):
+        self.assertEqual(distances(self.p), ((1, 0, 0), (1, 1, 0), (1, 1, 1)))
+
+    def test_e07(self):
+        self.assertEqual(apart(self.t, (0, 1), (3, 1)), "clash")
+        self.assertEqual(apart(self.t, (0, 1), (3, 2)), "first")
+
+    def test_e08(self):
+        least = [least_cells(program) for program in (self.p, self.r, self.t, self.q)]
+        self.assertEqual(least, [1, 2, 3, None])
+
+    def test_e09(self):
+        self.assertEqual(following(self.p), ((1, 0), (2, 0), (0, 1)))
+        self.assertEqual(lot(self.q), ((0,), ()))
+
+    def test_e10(self):
+        self.assertIsNone(table_clash(self.r, ((0, 1),)))
+
+
+if __name__ == "__main__":
+    unittest.main()
