@@ -62,25 +62,32 @@ def lined_up(steps, links):
     return line
 
 
+def ring_behind(came, step):
+    """The first ring that is reached going back from a step, as a tuple of told links.
+
+    came is a dict from steps to the told link that leads to them and the step from which it goes.
+    """
+    places = {}
+    walk = []
+    while step not in places:
+        places[step] = len(walk)
+        told, step = came[step]
+        walk.append(told)
+    ring = walk[places[step]:]
+    return tuple(ring[::-1])
+
+
 def zero_ring(steps, needs, befores):
     """A ring of links that sums to 0 rounds, as a tuple of told links, or None."""
     sound = set(lined_up(steps, needs + befores))
-    back = {}
+    came = {}
     for told, (one, other, rounds) in told_links(needs, befores):
         if rounds == 0 and one not in sound:
-            back[other] = (told, one)
-    if len(back) == 0:
+            came[other] = (told, one)
+    if len(came) == 0:
         return None
     # Each step that is not sound has one such step ahead of it, so going back must come round.
-    places = {}
-    walk = []
-    step = min(list(back))
-    while step not in places:
-        places[step] = len(walk)
-        link, step = back[step]
-        walk.append(link)
-    ring = walk[places[step]:]
-    return tuple(ring[::-1])
+    return ring_behind(came, min(list(came)))
 
 
 def leading_from(steps, links):

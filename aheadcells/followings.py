@@ -71,12 +71,16 @@ def least_sum(spans):
     return sum(matching.row_prices) + sum(matching.column_prices)
 
 
-def least_cells(program):
-    """The least sum of a following, or None."""
-    spans = distances(program)
+def least_or_none(spans):
+    """The least sum of distances that match all makers, or None."""
     if len(loose_places(spans)) > 0:
         return None
     return least_sum(spans)
+
+
+def least_cells(program):
+    """The least sum of a following, or None."""
+    return least_or_none(distances(program))
 
 
 def following(program):
@@ -115,17 +119,21 @@ def crowd(program):
     return first_values(makers(program), distances(program), many)
 
 
-def lot(program):
-    """A lot, or None if there is a following."""
-    every = makers(program)
-    spans = distances(program)
+def lot_of(every, spans):
+    """A lot of the makers, where one of them is loose."""
     loose = loose_places(spans)
-    if len(loose) == 0:
-        return None
     # A loose maker has a distance to all makers to which these have one, but none to itself.
     behind = [place for place, span in enumerate(spans[loose[0]]) if span is not None]
     both = sorted(behind + loose[:1])
     return (tuple([every[place] for place in both]), tuple([every[place] for place in behind]))
+
+
+def lot(program):
+    """A lot, or None if there is a following."""
+    spans = distances(program)
+    if len(loose_places(spans)) == 0:
+        return None
+    return lot_of(makers(program), spans)
 
 
 def crowd_of(program, many):
@@ -142,8 +150,8 @@ def crowd_of(program, many):
     return first_values(every, spans, many)
 
 
-def is_following(program, thing):
-    """Whether a thing is a following."""
+def follows_over(program, spans, thing):
+    """Whether a thing has a pair (follower, rounds) for each maker, as a following, over no less than these spans."""
     every = makers(program)
     if not isinstance(thing, tuple) or len(thing) != len(every):
         return False
@@ -152,11 +160,16 @@ def is_following(program, thing):
             return False
     if tuple(sorted([pair[0] for pair in thing])) != every:
         return False
-    for row, (follower, rounds) in zip(distances(program), thing):
+    for row, (follower, rounds) in zip(spans, thing):
         span = row[every.index(follower)]
         if span is None or rounds < span:
             return False
     return True
+
+
+def is_following(program, thing):
+    """Whether a thing is a following."""
+    return follows_over(program, distances(program), thing)
 
 
 def is_crowd(program, thing):

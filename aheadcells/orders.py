@@ -90,8 +90,11 @@ def drawn_order(program, choices):
 
 def counts_below(program, doings):
     """How often each step must be done so that these doings can stand in an order, and no oftener."""
-    counts = [0] * program.steps
+    latest = {}
     for one, number in doings:
+        latest[one] = max(number, latest.get(one, number))
+    counts = [0] * program.steps
+    for one, number in latest.items():
         for step, rounds in least_to(program, one).items():
             counts[step] = max(counts[step], number - rounds)
     return counts

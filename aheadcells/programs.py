@@ -34,6 +34,23 @@ class Program:
         )
 
 
+def unbounded(steps, needs, befores):
+    """A program to be returned, which may be beyond the bounds of what is constructed."""
+    ring = zero_ring(steps, needs, befores)
+    if ring is not None:
+        raise Stuck(ring)
+    made = Program(1, (), ())
+    made.steps = steps
+    made.needs = needs
+    made.befores = befores
+    return made
+
+
+def is_rounds(thing):
+    """Whether a thing is rounds, as a link of a constructed program may have them."""
+    return is_between(0, MOST_ROUNDS, thing)
+
+
 def is_link(steps, thing):
     """Whether a thing is a triple of two steps and rounds, as a constructed program may have it."""
     return (
@@ -41,7 +58,7 @@ def is_link(steps, thing):
         and len(thing) == 3
         and is_between(0, steps - 1, thing[0])
         and is_between(0, steps - 1, thing[1])
-        and is_between(0, MOST_ROUNDS, thing[2])
+        and is_rounds(thing[2])
     )
 
 

@@ -16,10 +16,15 @@ def widest(pairs, least):
     return max(sums)
 
 
-def distance(program, one, other):
-    """The distance from a maker to another one, or None."""
+def check_makers(program, one, other):
+    """Raise NoMaker unless both are makers."""
     if not is_maker(program, one) or not is_maker(program, other):
         raise NoMaker()
+
+
+def distance(program, one, other):
+    """The distance from a maker to another one, or None."""
+    check_makers(program, one, other)
     return widest(readers(program, one), least_to(program, other))
 
 

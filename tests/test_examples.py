@@ -1,9 +1,14 @@
 import unittest
 
+from aheadcells.cheapest import always, many_cheapest
 from aheadcells.followings import following, least_cells, lot
+from aheadcells.joining import unrolled
 from aheadcells.orders import ahead, can_be_done, fault, wanted
+from aheadcells.paces import pace
 from aheadcells.programs import Program, makers, readers
+from aheadcells.running import last_readers, most_wanted
 from aheadcells.tables import table_clash
+from aheadcells.texts import program_text
 from aheadcells.values import apart, distances
 from aheadcells.ways import least_rounds
 
@@ -52,6 +57,23 @@ class Examples(unittest.TestCase):
 
     def test_e10(self):
         self.assertIsNone(table_clash(self.r, ((0, 1),)))
+
+    def test_e11(self):
+        self.assertEqual(most_wanted(self.t)[:2], ("most", 2))
+        self.assertEqual(last_readers(self.t), (None, (5, 0), (5, 0)))
+
+    def test_e12(self):
+        self.assertEqual(pace(self.p, (1, 2, 3))[0], (6, 1))
+
+    def test_e13(self):
+        self.assertEqual(many_cheapest(self.p), 1)
+        self.assertEqual(always(self.p), [(0, 1), (1, 2), (2, 0)])
+
+    def test_e14(self):
+        self.assertEqual(least_cells(unrolled(self.r, 3)), 2)
+
+    def test_e18(self):
+        self.assertEqual(program_text(self.r), "steps 2\nneed 0 1 0\nbefore 1 0 2\n")
 
 
 if __name__ == "__main__":

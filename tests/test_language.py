@@ -18,8 +18,8 @@ ERRORS = {"ValueError", "KeyError"}
 BARRED = {"register", "mro", "elements", "open", "input", "law", "version_info", "with_traceback", "add_note"}
 # Most of these may stand under conditions; the package does without them.
 UNUSED = (
-    ast.GeneratorExp, ast.AsyncFunctionDef, ast.Yield, ast.YieldFrom, ast.Global, ast.Try, ast.With, ast.JoinedStr,
-    ast.Starred, ast.NamedExpr,
+    ast.GeneratorExp, ast.AsyncFunctionDef, ast.Yield, ast.YieldFrom, ast.Global, ast.With, ast.JoinedStr,
+    ast.Starred, ast.NamedExpr, ast.ExceptHandler,
 )
 
 
@@ -110,6 +110,9 @@ class Language(unittest.TestCase):
                     self.assertNotIsInstance(node.value, (float, complex, bytes))
                 if isinstance(node, ast.BinOp):
                     self.assertNotIsInstance(node.op, (ast.Div, ast.Pow, ast.MatMult))
+                if isinstance(node, ast.Try):
+                    # What stands behind a try is put back by plain assignments alone.
+                    self.assertTrue(all(isinstance(row, ast.Assign) for row in node.finalbody), name)
 
     def test_interface_is_defined_where_it_is_listed(self):
         interface = {
@@ -121,11 +124,43 @@ class Language(unittest.TestCase):
                               "is_lot"),
             "tables.py": ("table_of", "cell", "cells_of", "run_cells", "cell_row", "table_clash", "is_table_clash",
                           "lost", "stranger_clash"),
+            "running.py": ("most_wanted", "order_with", "all_wanted", "is_most_paper", "last_readers"),
+            "kinds.py": ("kind_cells", "kind_price"),
+            "paces.py": ("waiting", "pace", "is_pace_paper"),
+            "cheapest.py": ("many_cheapest", "cheapest", "always", "never", "least_with", "least_without"),
+            "joining.py": ("side_by_side", "joined", "unrolled", "moved"),
+            "bench.py": ("Bench",),
+            "texts.py": ("program_text", "order_text", "following_text", "table_text"),
         }
         for name, expected in interface.items():
             body = ast.parse(text_of(name)).body
             defined = {node.name for node in body if isinstance(node, (ast.FunctionDef, ast.ClassDef))}
             self.assertTrue(set(expected) <= defined, name)
+
+    def test_methods_are_defined_in_their_class(self):
+        interface = {
+            "bench.py": ("need", "before", "strike", "change", "step", "program", "cells", "following", "crowd", "lot",
+                         "back", "depth", "trying", "copy"),
+        }
+        for name, expected in interface.items():
+            for node in ast.parse(text_of(name)).body:
+                if isinstance(node, ast.ClassDef):
+                    methods = {row.name for row in node.body if isinstance(row, ast.FunctionDef)}
+                    self.assertTrue(set(expected) <= methods, name)
+
+    def test_files_do_not_import_from_each_other(self):
+        led = {
+            name[:-3]: {
+                node.module.split(".")[1] for node in nodes_of(name)
+                if isinstance(node, ast.ImportFrom) and node.module not in LIBRARY
+            }
+            for name in files()
+        }
+        while led:
+            free = [name for name, others in led.items() if not others & set(led)]
+            self.assertNotEqual(free, [], led)
+            for name in free:
+                del led[name]
 
 
 if __name__ == "__main__":
