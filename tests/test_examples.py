@@ -1,12 +1,14 @@
 import unittest
 
 from aheadcells.cheapest import always, many_cheapest
+from aheadcells.counting import many_orders
 from aheadcells.followings import following, least_cells, lot
 from aheadcells.joining import unrolled
 from aheadcells.orders import ahead, can_be_done, fault, wanted
 from aheadcells.paces import pace
 from aheadcells.programs import Program, makers, readers
 from aheadcells.running import last_readers, most_wanted
+from aheadcells.shorts import least_short
 from aheadcells.tables import table_clash
 from aheadcells.texts import program_text
 from aheadcells.values import apart, distances
@@ -71,6 +73,13 @@ class Examples(unittest.TestCase):
 
     def test_e14(self):
         self.assertEqual(least_cells(unrolled(self.r, 3)), 2)
+
+    def test_e15(self):
+        self.assertEqual(many_orders(self.p, (2, 2, 2)), 1)
+        self.assertEqual(many_orders(self.q, (2, 2)), 2)
+
+    def test_e16(self):
+        self.assertEqual(least_short(self.t)[0], 2)
 
     def test_e18(self):
         self.assertEqual(program_text(self.r), "steps 2\nneed 0 1 0\nbefore 1 0 2\n")

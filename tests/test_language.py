@@ -8,6 +8,7 @@ import unittest
 FOLDER = os.path.join(os.path.dirname(os.path.dirname(os.path.abspath(__file__))), "aheadcells")
 LIBRARY = {
     "heapq": ("heapify", "heappop", "heappush", "heappushpop", "heapreplace"),
+    "itertools": ("combinations", "permutations"),
     "math": ("comb", "factorial", "gcd", "isqrt", "lcm", "perm"),
 }
 CALLED = {
@@ -131,6 +132,10 @@ class Language(unittest.TestCase):
             "joining.py": ("side_by_side", "joined", "unrolled", "moved"),
             "bench.py": ("Bench",),
             "texts.py": ("program_text", "order_text", "following_text", "table_text"),
+            "reading.py": ("read_program", "read_order", "read_following", "read_table"),
+            "shorts.py": ("least_short", "least_paced"),
+            "helping.py": ("helping", "is_helping", "tight"),
+            "counting.py": ("many_orders", "order_number", "numbered_order"),
         }
         for name, expected in interface.items():
             body = ast.parse(text_of(name)).body
