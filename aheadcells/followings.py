@@ -78,6 +78,11 @@ def least_or_none(spans):
     return least_sum(spans)
 
 
+def least_among(spans, places):
+    """The least sum of distances that match the makers at these places among themselves, or None."""
+    return least_or_none([[spans[one][other] for other in places] for one in places])
+
+
 def least_cells(program):
     """The least sum of a following, or None."""
     return least_or_none(distances(program))

@@ -66,7 +66,7 @@ class Search:
     def __init__(self, program, many, most):
         self.makers = makers(program)
         self.pairs = [readers(program, maker) for maker in self.makers]
-        self.many = many
+        self.limit = many
         self.most = most
         self.crowds = []
 
@@ -83,8 +83,8 @@ class Search:
         for crowd in self.crowds:
             if is_whole(spans, crowd):
                 return crowd
-        values = first_values(list(range(len(spans))), spans, self.many + 1)
-        if len(values) <= self.many:
+        values = first_values(list(range(len(spans))), spans, self.limit + 1)
+        if len(values) <= self.limit:
             return None
         crowd = bounds_of(values)
         self.crowds = [crowd] + self.crowds
@@ -106,13 +106,13 @@ class Search:
         return found
 
     def parting(self, rows, crowd):
-        """The list of those befores that alone part two values of a crowd."""
+        """A dict that has, as its keys, those befores that alone part two values of a crowd."""
         found = {}
         for one, first, _ in crowd:
             for other, _, last in crowd:
                 for before in self.bringing(rows, self.pairs[one], self.makers[other], last - first):
                     found[before] = True
-        return list(found)
+        return found
 
     def bringing(self, rows, pairs, maker, room):
         """The list of those befores that bring all readings ahead of a maker that has so many rounds more."""
@@ -129,9 +129,14 @@ class Search:
 
     def one_more(self, rows):
         """A before with which so many cells are enough, as a tuple of one, or None, where they are not without it."""
-        for before in self.parting(rows, self.crowd_in(rows)):
-            if self.crowd_in(rows_with(rows, before)) is None:
-                return (before,)
+        left = list(self.parting(rows, self.crowd_in(rows)))
+        while len(left) > 0:
+            crowd = self.crowd_in(rows_with(rows, left[0]))
+            if crowd is None:
+                return (left[0],)
+            # Whatever leaves this crowd whole does not help either.
+            parting = self.parting(rows, crowd)
+            left = [before for before in left if before in parting]
         return None
 
     def two_more(self, rows):

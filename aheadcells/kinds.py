@@ -2,7 +2,7 @@
 
 from aheadcells.basics import is_between
 from aheadcells.errors import NoKinds, NoPrices
-from aheadcells.followings import least_or_none
+from aheadcells.followings import least_among
 from aheadcells.programs import makers
 from aheadcells.values import distances
 
@@ -22,8 +22,7 @@ def kind_cells(program, kinds):
     spans = distances(program)
     found = {}
     for kind in sorted(set(kinds)):
-        places = [place for place, other in enumerate(kinds) if other == kind]
-        found[kind] = least_or_none([[spans[one][other] for other in places] for one in places])
+        found[kind] = least_among(spans, [place for place, other in enumerate(kinds) if other == kind])
     return found
 
 

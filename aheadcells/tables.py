@@ -36,6 +36,11 @@ def spot_in(row, number):
     return row[(number - 1) % len(row)]
 
 
+def rows_by_maker(program, table):
+    """A dict from each maker to its row."""
+    return {maker: row for maker, row in zip(makers(program), table)}
+
+
 def rings_of(program, thing):
     """The rings of followers of a following, each a list of the places of its makers."""
     every = makers(program)
@@ -225,7 +230,7 @@ def check_order(program, order):
 
 def values_made(program, table, order):
     """For each place of an order the value that is made there and its cell, as a pair, or None."""
-    rows = {maker: row for maker, row in zip(makers(program), table)}
+    rows = rows_by_maker(program, table)
     counts = [0] * program.steps
     made = []
     for step in order:
@@ -276,7 +281,7 @@ def cell_row(program, table, number, many):
         raise NoNumber()
     if not is_between(0, MOST_NUMBER, many):
         raise NoNumber()
-    rows = {maker: row for maker, row in zip(makers(program), table)}
+    rows = rows_by_maker(program, table)
     # Of values of one round in one cell, the links over 0 rounds tell which is ahead.
     line = [step for step in lined_up(program.steps, links_of(program)) if step in rows]
     found = []

@@ -2,8 +2,11 @@
 
 import random
 
+from aheadcells.bench import Bench
+from aheadcells.desk import Desk
 from aheadcells.errors import CellError, NoStep, Stuck
 from aheadcells.programs import Program
+from aheadcells.yards import Yard
 
 P = Program(3, ((0, 1, 0), (1, 2, 0), (2, 0, 1)), ())
 Q = Program(2, ((0, 1, 0),), ())
@@ -89,7 +92,8 @@ def odd_things():
         lambda step, number: 0, iter((0, 1)), looking("a"), zip((0,), (1,)), map(int, "01"), enumerate("ab"),
         reversed([0, 1]), {}.keys(), {0: 1}.items(), {1: 2}.values(), property(), staticmethod(len), [].append,
         random, ValueError("a"), ValueError, {}, {0: 1}, {(0, 1): (0,)}, [], [0], [0, 1], [[0, 1]], [(0, 1)],
-        P, R, Program, NoStep(), Stuck(()), CellError(), (P,), [P, R], (P, 1), (0, P), (0, 1, P), {"a": P},
+        P, R, Program, Bench(P), Desk(), Yard(P, 1), [Yard], (Bench(R), 1), NoStep(), Stuck(()), CellError(), (P,),
+        [P, R], (P, 1), (0, P), (0, 1, P), {"a": P},
         (None,), (True,), (False, True), (0, True), (True, 1), (0, 0, True), (0, None), ("0", 1), (0, "1"), ((),),
         ([],), ((0, 1),) * 3 + (None,), ((0, 1, 0), None), (b"a", 1), (0, b"a"), ("need",), ("need", True), (-1,),
         (0, -1), (-1, 1), (-(10 ** 39), 10 ** 39), (P, P, P), ((), (), ()), ([], [], []), (NoStep(), ()),

@@ -1,6 +1,7 @@
 import unittest
 
 from aheadcells.cheapest import always, many_cheapest
+from aheadcells.codes import code_of
 from aheadcells.counting import many_orders
 from aheadcells.followings import following, least_cells, lot
 from aheadcells.joining import unrolled
@@ -80,6 +81,9 @@ class Examples(unittest.TestCase):
 
     def test_e16(self):
         self.assertEqual(least_short(self.t)[0], 2)
+
+    def test_e17(self):
+        self.assertEqual(code_of(self.r, ((0, 1),)), ((((), 0), ((), 1)), (((0,), None), ((1,), None))))
 
     def test_e18(self):
         self.assertEqual(program_text(self.r), "steps 2\nneed 0 1 0\nbefore 1 0 2\n")

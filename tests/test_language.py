@@ -5,6 +5,8 @@ import builtins
 import os
 import unittest
 
+from tests.interface import FUNCTIONS, METHODS
+
 FOLDER = os.path.join(os.path.dirname(os.path.dirname(os.path.abspath(__file__))), "aheadcells")
 LIBRARY = {
     "heapq": ("heapify", "heappop", "heappush", "heappushpop", "heapreplace"),
@@ -116,42 +118,18 @@ class Language(unittest.TestCase):
                     self.assertTrue(all(isinstance(row, ast.Assign) for row in node.finalbody), name)
 
     def test_interface_is_defined_where_it_is_listed(self):
-        interface = {
-            "programs.py": ("Program", "readers", "makers"),
-            "orders.py": ("fault", "can_be_done", "drawn_order", "wanted", "ahead", "ahead_order"),
-            "ways.py": ("least_rounds", "least_way", "is_way", "surely", "loose_order", "needless"),
-            "values.py": ("distance", "distances", "clash", "is_clash", "apart"),
-            "followings.py": ("least_cells", "following", "lot", "crowd", "crowd_of", "is_following", "is_crowd",
-                              "is_lot"),
-            "tables.py": ("table_of", "cell", "cells_of", "run_cells", "cell_row", "table_clash", "is_table_clash",
-                          "lost", "stranger_clash"),
-            "running.py": ("most_wanted", "order_with", "all_wanted", "is_most_paper", "last_readers"),
-            "kinds.py": ("kind_cells", "kind_price"),
-            "paces.py": ("waiting", "pace", "is_pace_paper"),
-            "cheapest.py": ("many_cheapest", "cheapest", "always", "never", "least_with", "least_without"),
-            "joining.py": ("side_by_side", "joined", "unrolled", "moved"),
-            "bench.py": ("Bench",),
-            "texts.py": ("program_text", "order_text", "following_text", "table_text"),
-            "reading.py": ("read_program", "read_order", "read_following", "read_table"),
-            "shorts.py": ("least_short", "least_paced"),
-            "helping.py": ("helping", "is_helping", "tight"),
-            "counting.py": ("many_orders", "order_number", "numbered_order"),
-        }
-        for name, expected in interface.items():
-            body = ast.parse(text_of(name)).body
-            defined = {node.name for node in body if isinstance(node, (ast.FunctionDef, ast.ClassDef))}
+        for name, expected in FUNCTIONS.items():
+            body = ast.parse(text_of(name + ".py")).body
+            defined = {node.name for node in body if isinstance(node, ast.FunctionDef)}
             self.assertTrue(set(expected) <= defined, name)
 
     def test_methods_are_defined_in_their_class(self):
-        interface = {
-            "bench.py": ("need", "before", "strike", "change", "step", "program", "cells", "following", "crowd", "lot",
-                         "back", "depth", "trying", "copy"),
-        }
-        for name, expected in interface.items():
-            for node in ast.parse(text_of(name)).body:
-                if isinstance(node, ast.ClassDef):
-                    methods = {row.name for row in node.body if isinstance(row, ast.FunctionDef)}
-                    self.assertTrue(set(expected) <= methods, name)
+        for (name, kind), expected in METHODS.items():
+            body = ast.parse(text_of(name + ".py")).body
+            found = [node for node in body if isinstance(node, ast.ClassDef) and node.name == kind]
+            self.assertEqual(len(found), 1, kind)
+            methods = {row.name for row in found[0].body if isinstance(row, ast.FunctionDef)}
+            self.assertTrue(set(expected) | {"__init__"} <= methods, kind)
 
     def test_files_do_not_import_from_each_other(self):
         led = {

@@ -1,24 +1,32 @@
 import random
 import unittest
+from math import lcm
 
 from aheadcells.bench import Bench
 from aheadcells.cheapest import always, cheapest, least_with, least_without, many_cheapest, never
-from aheadcells.errors import NoStep, Stuck
+from aheadcells.codes import code_break, code_of, code_reads, is_code, true_reads
+from aheadcells.counting import many_orders, numbered_order, order_number
+from aheadcells.errors import BadProgram, BadText, NoStep, Stuck, TooMany
 from aheadcells.followings import (
     crowd, crowd_of, following, is_crowd, is_following, is_lot, least_cells, lot,
 )
+from aheadcells.helping import helping, is_helping, tight
 from aheadcells.joining import joined, moved, side_by_side, unrolled
 from aheadcells.kinds import kind_cells, kind_price
 from aheadcells.orders import ahead, ahead_order, can_be_done, drawn_order, fault, wanted
 from aheadcells.paces import is_pace_paper, pace, waiting
+from aheadcells.pieces import loose_makers, piece_cells, pieces
 from aheadcells.programs import Program, makers, readers
+from aheadcells.reading import read_program
 from aheadcells.running import all_wanted, is_most_paper, last_readers, most_wanted, order_with
+from aheadcells.shorts import least_paced, least_short
 from aheadcells.tables import (
     cell, cell_row, cells_of, is_table_clash, lost, run_cells, stranger_clash, table_clash, table_of,
 )
 from aheadcells.texts import program_text
 from aheadcells.values import apart, clash, distance, distances, is_clash
 from aheadcells.ways import is_way, least_rounds, least_way, loose_order, needless, surely
+from aheadcells.yards import Yard
 from tests import reference
 from tests.samples import FAR, GREAT, LOOSE, P, Q, R, T, bound_program
 
@@ -59,6 +67,13 @@ def is_beyond(program):
     links = program.needs + program.befores
     most = max(len(program.needs), len(program.befores))
     return program.steps > 12 or most > 40 or any(rounds > 6 for one, other, rounds in links)
+
+
+class Spoken:
+    """The parts of a program, to be changed."""
+
+    def __init__(self, program):
+        self.steps, self.needs, self.befores = program.steps, program.needs, program.befores
 
 
 class Returned(unittest.TestCase):
@@ -225,6 +240,120 @@ class Returned(unittest.TestCase):
             lines = program_text(program).split("\n")
             self.assertEqual(len(lines), 2 + len(program.needs) + len(program.befores))
             self.assertEqual(Bench(program).cells(), least)
+
+    def test_reading(self):
+        """What is read is constructed, and so held to the bounds."""
+        for program in self.programs:
+            text = program_text(program)
+            if any(rounds >= 10 ** 9 for one, other, rounds in program.befores):
+                with self.assertRaises(BadText):
+                    read_program(text)
+            elif is_beyond(program):
+                with self.assertRaises(BadProgram):
+                    read_program(text)
+            else:
+                self.assertEqual(read_program(text), program)
+
+    def test_shorts(self):
+        few = 0
+        for program in self.programs:
+            times = tuple(1 + step % 99 for step in range(program.steps))
+            part = pace(program, times)[0]
+            if len(makers(program)) > 4:
+                for call in (lambda: least_short(program), lambda: least_paced(program, times, part)):
+                    with self.assertRaises(TooMany) as caught:
+                        call()
+                    self.assertEqual(caught.exception.most, 4)
+                continue
+            few += 1
+            number, thing = least_short(program)
+            self.assertEqual(reference.sum_of(thing), number)
+            self.assertTrue(is_following(waiting(program, thing), thing))
+            paced, thing = least_paced(program, times, part)
+            self.assertEqual(reference.sum_of(thing), paced)
+            self.assertEqual(pace(waiting(program, thing), times)[0], part)
+            self.assertTrue(number <= paced <= least_cells(program))
+        self.assertGreater(few, 2)
+
+    def test_helping(self):
+        for program in self.programs:
+            least = least_cells(program)
+            if least is None or least > 200:
+                many = 200
+            else:
+                self.assertEqual(helping(program, least, 3), ())
+                self.assertIs(is_helping(program, least, 0, ()), True)
+                many = least - 1
+            found = helping(program, many, 1)
+            self.assertIs(is_helping(program, many, 1, ()), False)
+            if found is not None:
+                self.assertIs(is_helping(program, many, 1, found), True)
+                self.assertLessEqual(least_cells(joined(program, found)), many)
+
+    def test_tight(self):
+        for program in self.programs:
+            found = tight(program)
+            self.assertEqual(found, sorted(found))
+            for word, number in (("need", 0), ("need", len(program.needs) - 1), ("before", len(program.befores) - 1)):
+                row = program.needs if word == "need" else program.befores
+                if number < 0:
+                    continue
+                rest = Spoken(program)
+                if word == "need":
+                    rest.needs = row[:number] + row[number + 1:]
+                else:
+                    rest.befores = row[:number] + row[number + 1:]
+                self.assertEqual((word, number) in found, least_cells(rest) != least_cells(program))
+
+    def test_counting(self):
+        for program in self.programs:
+            order = drawn_order(program, list(range(9)))
+            counts = tuple(order.count(step) for step in range(program.steps))
+            number = order_number(program, order)
+            many = many_orders(program, counts)
+            self.assertTrue(0 <= number < many)
+            self.assertEqual(numbered_order(program, counts, number), order)
+            last = numbered_order(program, counts, many - 1)
+            self.assertTrue(reference.is_lawful(program, last) and last >= order)
+
+    def test_codes_and_yards(self):
+        source = random.Random(133)
+        for program in self.programs:
+            row = following(program)
+            order = drawn_order(program, [source.randrange(60) for _ in range(90)])
+            self.assertEqual(len(true_reads(program, order)), 90)
+            table = table_of(program, row) if row is not None else ((0,),) * len(makers(program))
+            try:
+                code = code_of(program, table)
+            except TooMany:
+                self.assertGreater(lcm(*[len(row) for row in table]), 1000)
+                continue
+            self.assertEqual(len(code), program.steps)
+            self.assertIs(is_code(program, table, code), True)
+            broken = code_break(program, table)
+            self.assertEqual(broken is None, row is not None)
+            if broken is None:
+                self.assertEqual(code_reads(program, table, order), true_reads(program, order))
+            else:
+                self.assertNotEqual(code_reads(program, table, broken)[-1], true_reads(program, broken)[-1])
+            yard = Yard(program, 200)
+            for step in order:
+                yard.do(step)
+            self.assertEqual((yard.so_far(), yard.can_do()), (order, can_be_done(program, order)))
+            self.assertTrue(set(wanted(program, order)) <= set(yard.contents()))
+            self.assertEqual(yard.copy().depth(), 90)
+            yard.back()
+            self.assertEqual(yard.so_far(), order[:-1])
+
+    def test_pieces(self):
+        for program in self.programs:
+            found = pieces(program)
+            self.assertEqual(sorted(step for piece in found for step in piece), list(range(program.steps)))
+            place = {step: number for number, piece in enumerate(found) for step in piece}
+            self.assertTrue(all(place[one] <= place[other] for one, other, rounds in program.needs + program.befores))
+            loose, cells = loose_makers(program), piece_cells(program)
+            self.assertEqual(len(loose) > 0, None in cells)
+            self.assertEqual(least_cells(program), None if loose else sum(cells))
 
     def test_many_steps_one_behind_another(self):
         """Nothing is called within itself for each step, however many there are."""
