@@ -1,7 +1,7 @@
 import random
 import unittest
 from fractions import Fraction
-from itertools import permutations, product
+from itertools import combinations, permutations, product
 from math import gcd
 
 from aheadcells.errors import NoFraction, NoTimes, Stuck, TooMany
@@ -9,7 +9,7 @@ from aheadcells.followings import least_cells
 from aheadcells.joining import joined, side_by_side, unrolled
 from aheadcells.paces import pace, waiting
 from aheadcells.programs import Program, makers
-from aheadcells.shorts import least_paced, least_short
+from aheadcells.shorts import least_paced, least_rounds_over, least_short
 from tests import reference
 from tests.samples import (
     BARE, FAR, GREAT, LONE, LOOSE, NAMED, P, Q, R, T, bound_program, drawn_programs, odd_things,
@@ -17,6 +17,21 @@ from tests.samples import (
 
 FOUR = Program(5, ((0, 4, 1), (1, 4, 0), (2, 0, 0), (3, 2, 0), (3, 1, 2)), ())
 FIVE = Program(5, FOUR.needs + ((4, 3, 1),), ())
+# Programs in which a maker has to wait for more rounds than it would by itself, so that others wait for fewer.
+GIVING = (
+    Program(5, ((1, 3, 1), (0, 3, 0), (1, 1, 1), (1, 2, 2), (1, 3, 0), (4, 2, 0)), ()),
+    Program(5, ((4, 2, 1), (3, 2, 1), (1, 0, 1)), ((0, 1, 1), (1, 2, 0), (2, 3, 1), (3, 4, 0), (4, 0, 0))),
+    Program(7, ((1, 5, 1), (3, 6, 1), (3, 6, 0), (4, 4, 1), (0, 2, 0)), (
+        (0, 1, 1), (1, 2, 0), (2, 3, 1), (3, 4, 0), (4, 5, 0), (5, 6, 1), (6, 0, 1))),
+)
+GIVING_PACED = (
+    (Program(5, ((2, 4, 1), (1, 4, 0), (0, 3, 1)), ((2, 2, 1), (2, 3, 0), (0, 3, 1))), (20, 20, 1, 1, 3), Fraction(20)),
+    (Program(5, ((2, 4, 1), (1, 4, 0), (0, 3, 1)), ((2, 2, 1), (2, 3, 0), (0, 3, 1))), (20, 20, 1, 1, 3),
+     Fraction(61, 3)),
+    (Program(6, ((2, 2, 2), (5, 2, 2), (3, 2, 0), (3, 2, 2), (0, 1, 1)), (
+        (0, 1, 0), (1, 2, 2), (2, 3, 2), (3, 4, 0), (4, 5, 0), (5, 0, 2))), (20, 1, 20, 1, 3, 20), Fraction(20)),
+)
+PLACES = [places for many in range(1, 5) for places in combinations(range(4), many)]
 
 
 def least_rounds_of(program):
@@ -115,6 +130,10 @@ class LeastShort(unittest.TestCase):
         self.assertEqual(least_short(Program(2, ((0, 1, 0), (1, 0, 1)), ())), (1, ((1, 0), (0, 1))))
         self.assertEqual(self.check(Program(1, ((0, 0, 1),), ())), 1)
 
+    def test_waiting_longer_for_one_another(self):
+        for program, number in zip(GIVING, (3, 4, 4)):
+            self.assertEqual(self.check(program), number)
+
     def test_drawn(self):
         seen = {}
         many = 0
@@ -207,6 +226,16 @@ class LeastPaced(unittest.TestCase):
                 seen[more] = seen.get(more, 0) + 1
         self.assertGreater(min(seen[more] for more in (0, 1, 2)), 20)
 
+    def test_waiting_longer_for_one_another(self):
+        for program, times, part in GIVING_PACED:
+            self.check(program, times, part, 4)
+        source = random.Random(219)
+        for _ in range(60):
+            program = bound_program(source, source.randint(4, 6), source.randint(3, 6), source.randint(1, 2))
+            if len(makers(program)) in (3, 4):
+                times = tuple(source.choice((1, 2, 20)) for _ in range(program.steps))
+                self.check(program, times, Fraction(*pace(program, times)[0]), 2)
+
     def test_paced_falls_with_the_part(self):
         source = random.Random(217)
         for program in few(drawn_programs(218, 60, 5, 6, 2) + [FOUR, T]):
@@ -270,6 +299,37 @@ class LeastPaced(unittest.TestCase):
             part = pace(program, times)[0]
             self.assertEqual(least_paced(program, times, part), least_paced(Program(*before), times, part))
             self.assertEqual((program.steps, program.needs, program.befores), before)
+
+
+class Rounds(unittest.TestCase):
+    """Rounds of four makers, some of which must come to so many together: the least sum of them all."""
+
+    def test_against_all_rows(self):
+        source = random.Random(220)
+        seen = {}
+        for _ in range(150):
+            most = source.randint(1, 4)
+            bounds = {places: source.choice((0, source.randint(0, most * len(places)))) for places in PLACES}
+            least = min(
+                sum(row) for row in product(range(2 * most + 3), repeat=4)
+                if all(sum(row[place] for place in places) >= low for places, low in bounds.items())
+            )
+            row = least_rounds_over(bounds)
+            self.assertEqual(sum(row), least, bounds)
+            self.assertTrue(all(sum(row[place] for place in places) >= low for places, low in bounds.items()))
+            more = least - max(bounds.values())
+            seen[more] = seen.get(more, 0) + 1
+        self.assertGreater(len(seen), 2)
+
+    def test_each_two_of_three(self):
+        """What each two of three come to is not enough by half where it is odd."""
+        for few in combinations(range(4), 3):
+            for low, least in ((1, 2), (2, 3), (3, 5), (4, 6)):
+                bounds = {places: 0 for places in PLACES}
+                bounds.update({pair: low for pair in combinations(few, 2)})
+                row = least_rounds_over(bounds)
+                self.assertEqual(sum(row), least)
+                self.assertTrue(all(row[one] + row[other] >= low for one, other in combinations(few, 2)))
 
 
 class BeyondTheBounds(unittest.TestCase):
