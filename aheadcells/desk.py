@@ -147,24 +147,24 @@ class Desk:
         self.kept = {}
         self.past = []
 
-    def put(self, name, program):
-        """Keep a program under a name in the place of what is there; None for no program at all."""
+    def store(self, name, program):
+        """Put a program under a name in the place of what is there; None for no program at all."""
         if program is not None:
             self.kept[name] = program
         elif name in self.kept:
             del self.kept[name]
 
-    def change(self, name, program):
-        """Put a program under a name, so that it can be taken back."""
+    def keep(self, name, program):
+        """Keep a program under a name, or none, so that it can be taken back."""
         self.past.append((name, self.kept.get(name)))
-        self.put(name, program)
+        self.store(name, program)
 
     def undo(self):
         """Take back the last change that is not taken back."""
         if len(self.past) == 0:
             raise NothingDone()
         name, former = self.past.pop()
-        self.put(name, former)
+        self.store(name, former)
 
     def tell(self, line):
         """Do a line, and return its answer."""
@@ -177,12 +177,12 @@ class Desk:
             return "ok"
         word, name, behind = read_line(line)
         if word == "program":
-            self.change(name, read_program(with_feeds(behind)))
+            self.keep(name, read_program(with_feeds(behind)))
             return "ok"
         if name not in self.kept:
             raise NoName(name)
         if word == "drop":
-            self.change(name, None)
+            self.keep(name, None)
             return "ok"
         answer = ANSWERS[word]
         return answer(self.kept[name], behind)

@@ -135,8 +135,8 @@ class Search:
             if crowd is None:
                 return (left[0],)
             # Whatever leaves this crowd whole does not help either.
-            parting = self.parting(rows, crowd)
-            left = [before for before in left if before in parting]
+            others = self.parting(rows, crowd)
+            left = [before for before in left if before in others]
         return None
 
     def two_more(self, rows):
